@@ -70,6 +70,12 @@ func TestAddressesThatLeadNowhere(t *testing.T) {
 		refused(t, k, first, minted(address, at(9), 7, 1), api.ErrAddress)
 		refused(t, k, first, load(address, 0), api.ErrAddress)
 		refused(t, k, first, store(address, 0, 0), api.ErrAddress)
+		refused(t, k, first, removed(address...), api.ErrAddress)
+		refused(t, k, first, revoked(address...), api.ErrAddress)
+		refused(t, k, first, sent(address, 0), api.ErrAddress)
+		refused(t, k, first, received(address...), api.ErrAddress)
+		refused(t, k, first, rooted(address, at(1)), api.ErrAddress)
+		refused(t, k, first, rooted(at(2), address), api.ErrAddress)
 	}
 }
 

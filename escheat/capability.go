@@ -50,13 +50,15 @@ type frame struct {
 	rights int
 }
 
+const threadBits = 4
+
 // bitsOf has, for each type of object, the least and the most Bits; the row of no type lets none through.
 var bitsOf = [...]struct{ least, most int }{
 	0:            {1, 0},
 	api.Untyped:  {4, 10},
 	api.Node:     {3, 6},
 	api.Endpoint: {2, 2},
-	api.Task:     {4, 4},
+	api.Task:     {threadBits, threadBits},
 	api.Frame:    {2, 6},
 }
 

@@ -1,7 +1,11 @@
 // Package escheat: a kernel in which whatever was given away can be taken back: see DOC.md.
 package escheat
 
-import "escheat/api"
+import (
+	"slices"
+
+	"escheat/api"
+)
 
 // Kernel of threads, memory and capabilities.
 type Kernel struct {
@@ -9,7 +13,9 @@ type Kernel struct {
 	held    map[slot]capability
 	tree    tree
 	nodes   map[int]int // by base: how many slots
+	doomed  []api.Doom
 	threads map[int]api.Thread
+	queues  map[int]queue // by base of the endpoint
 }
 
 // Where the first objects lie, and how much memory they leave in use.
@@ -26,6 +32,7 @@ func Boot() *Kernel {
 		tree:    tree{},
 		nodes:   map[int]int{},
 		threads: map[int]api.Thread{},
+		queues:  map[int]queue{},
 	}
 	memory := slot{firstNode, 0}
 	k.lay(memory, untyped{extent{0, 10}, firstMark}, nowhere)
@@ -52,7 +59,7 @@ func (k *Kernel) Do(thread int, c api.Call, bits ...bool) (word int, err api.Err
 			word, err = 0, given.err
 		}
 	}()
-	return methods()[c.Kind](&turn{kernel: k, call: c, root: caller.Root, bits: bits})
+	return methods()[c.Kind](&turn{kernel: k, call: c, thread: thread, root: caller.Root, bits: bits})
 }
 
 // Thread tells how one stands (P4).
@@ -78,8 +85,8 @@ func (k *Kernel) Caps() []api.Entry {
 	return all
 }
 
-// Doomed tells the doomed nodes (P4). No call takes anything away yet, so there are none.
-func (k *Kernel) Doomed() []api.Doom { return nil }
+// Doomed tells the doomed nodes (P4).
+func (k *Kernel) Doomed() []api.Doom { return slices.Clone(k.doomed) }
 
 // Word of memory (P4).
 func (k *Kernel) Word(n int) (int, api.Errno) {
@@ -100,6 +107,8 @@ func (k *Kernel) found(at slot, c capability, parent slot, root int) {
 	switch c := c.(type) {
 	case node:
 		k.nodes[c.base] = c.slots()
+	case endpoint:
+		k.queues[c.base] = newQueue()
 	case task:
 		k.threads[c.base] = api.Thread{State: api.Ready, Root: root}
 	}

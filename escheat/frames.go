@@ -21,7 +21,7 @@ func (t *turn) store() (int, api.Errno) {
 	if err != api.OK {
 		return 0, err
 	}
-	if t.call.Value < 0 || t.call.Value > math.MaxUint32 {
+	if !isWord(t.call.Value) {
 		return 0, api.ErrArg
 	}
 	t.kernel.words[n] = uint32(t.call.Value)
@@ -42,3 +42,5 @@ func (t *turn) wordOfFrame(right int) (int, api.Errno) {
 	}
 	return f.base + t.call.Offset, api.OK
 }
+
+func isWord(n int) bool { return 0 <= n && n <= math.MaxUint32 }

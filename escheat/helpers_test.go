@@ -2,6 +2,7 @@ package escheat_test
 
 import (
 	"reflect"
+	"slices"
 	"testing"
 
 	"escheat/api"
@@ -13,13 +14,27 @@ const first = 64 // the thread that Boot makes
 const huge = 1<<63 - 1
 
 // must does a call of the first thread that has to answer OK.
-func must(t *testing.T, k *escheat.Kernel, c api.Call) int {
+func must(t *testing.T, k *escheat.Kernel, c api.Call, bits ...bool) int {
 	t.Helper()
-	word, err := k.Do(first, c)
+	return mustBy(t, k, first, c, bits...)
+}
+
+// mustBy does a call of any thread that has to answer OK.
+func mustBy(t *testing.T, k *escheat.Kernel, thread int, c api.Call, bits ...bool) int {
+	t.Helper()
+	word, err := k.Do(thread, c, bits...)
 	if err != api.OK {
-		t.Fatalf("Do(%+v): error %d, want OK", c, err)
+		t.Fatalf("Do(%d, %+v, %v): error %d, want OK", thread, c, bits, err)
 	}
 	return word
+}
+
+// answers does a call that has to answer an error, whatever it may change.
+func answers(t *testing.T, k *escheat.Kernel, thread int, c api.Call, want api.Errno, bits ...bool) {
+	t.Helper()
+	if word, err := k.Do(thread, c, bits...); word != 0 || err != want {
+		t.Fatalf("Do(%d, %+v, %v) = %d, %d, want 0, %d", thread, c, bits, word, err, want)
+	}
 }
 
 // refused does a call that has to answer an error, and to change nothing.
@@ -44,7 +59,9 @@ type view struct {
 }
 
 func look(k *escheat.Kernel) view {
-	v := view{caps: k.Caps(), doomed: k.Doomed(), threads: map[int]api.Thread{}}
+	v := view{threads: map[int]api.Thread{}}
+	v.caps = append(v.caps, k.Caps()...)
+	v.doomed = append(v.doomed, k.Doomed()...)
 	for n := range v.words {
 		v.words[n], _ = k.Word(n)
 		if thread, err := k.Thread(n); err == api.OK {
@@ -57,9 +74,69 @@ func look(k *escheat.Kernel) view {
 // wantCaps compares all capabilities with those written down.
 func wantCaps(t *testing.T, k *escheat.Kernel, want []api.Entry) {
 	t.Helper()
-	if got := k.Caps(); !reflect.DeepEqual(got, want) {
+	if got := k.Caps(); !slices.Equal(got, want) {
 		t.Errorf("Caps =\n%v, want\n%v", got, want)
 	}
+}
+
+// wantDoomed compares the list of doomed nodes with pairs of Node and Left.
+func wantDoomed(t *testing.T, k *escheat.Kernel, want ...[2]int) {
+	t.Helper()
+	got := [][2]int{}
+	for _, d := range k.Doomed() {
+		got = append(got, [2]int{d.Node, d.Left})
+	}
+	if !slices.Equal(got, want) {
+		t.Errorf("Doomed = %v, want %v", got, want)
+	}
+}
+
+// wantThread compares how a thread stands.
+func wantThread(t *testing.T, k *escheat.Kernel, base int, want api.Thread) {
+	t.Helper()
+	if got, err := k.Thread(base); got != want || err != api.OK {
+		t.Errorf("Thread(%d) = %+v, %d, want %+v", base, got, err, want)
+	}
+}
+
+// wantNoThread checks that one is no more.
+func wantNoThread(t *testing.T, k *escheat.Kernel, base int) {
+	t.Helper()
+	if got, err := k.Thread(base); got != (api.Thread{}) || err != api.ErrThread {
+		t.Errorf("Thread(%d) = %+v, %d, want ErrThread", base, got, err)
+	}
+}
+
+// wantWord compares a word of memory.
+func wantWord(t *testing.T, k *escheat.Kernel, n, want int) {
+	t.Helper()
+	if w, err := k.Word(n); w != want || err != api.OK {
+		t.Errorf("Word(%d) = %d, %d, want %d", n, w, err, want)
+	}
+}
+
+// wantEmpty checks that nothing lies in a slot.
+func wantEmpty(t *testing.T, k *escheat.Kernel, node, index int) {
+	t.Helper()
+	for _, e := range k.Caps() {
+		if e.Node == node && e.Index == index {
+			t.Errorf("slot %d of node %d holds %v", index, node, e)
+		}
+	}
+}
+
+// polls counts those of a call of the first thread: as many as it can be preempted at.
+func polls(t *testing.T, build func() *escheat.Kernel, c api.Call) int {
+	t.Helper()
+	for n := range 1000 {
+		bits := make([]bool, n+1)
+		bits[n] = true
+		if _, err := build().Do(first, c, bits...); err != api.Preempted {
+			return n
+		}
+	}
+	t.Fatalf("Do(%+v): polls without end", c)
+	return 0
 }
 
 // capAt is the entry of one slot.
@@ -96,6 +173,20 @@ func load(from []int, offset int) api.Call {
 
 func store(to []int, offset, value int) api.Call {
 	return api.Call{Kind: api.Store, At: to, Offset: offset, Value: value}
+}
+
+func removed(from ...int) api.Call { return api.Call{Kind: api.Delete, At: from} }
+
+func revoked(from ...int) api.Call { return api.Call{Kind: api.Revoke, At: from} }
+
+func sent(to []int, value int) api.Call {
+	return api.Call{Kind: api.Send, At: to, Value: value}
+}
+
+func received(from ...int) api.Call { return api.Call{Kind: api.Receive, At: from} }
+
+func rooted(thread, node []int) api.Call {
+	return api.Call{Kind: api.Root, At: thread, To: node}
 }
 
 // entry in the root node, whose parent lies there too.

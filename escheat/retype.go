@@ -8,6 +8,9 @@ const resetStep = 16
 // retype makes objects of free memory.
 func (t *turn) retype() (int, api.Errno) {
 	k := t.kernel
+	if err := t.polled(k.workOff()); err != api.OK {
+		return 0, err
+	}
 	from := t.find(t.call.At)
 	if _, free := k.held[from].(untyped); !free {
 		return 0, api.ErrType

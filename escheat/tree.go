@@ -35,15 +35,41 @@ func (t tree) move(from, to slot) {
 	t[to] = s
 	siblings := t[s.parent].children
 	siblings[slices.Index(siblings, from)] = to
-	for _, child := range s.children {
+	t.setParent(s.children, to)
+}
+
+// remove a capability; its children stand where it stood, but behind all others where there is no parent.
+func (t tree) remove(at slot) {
+	s := t[at]
+	delete(t, at)
+	above := t[s.parent]
+	place := slices.Index(above.children, at)
+	if s.parent == nowhere {
+		above.children = append(slices.Delete(above.children, place, place+1), s.children...)
+	} else {
+		above.children = slices.Replace(above.children, place, place+1, s.children...)
+	}
+	t[s.parent] = above
+	t.setParent(s.children, s.parent)
+}
+
+// setParent of those who have another one so far.
+func (t tree) setParent(children []slot, parent slot) {
+	for _, child := range children {
 		below := t[child]
-		below.parent = to
+		below.parent = parent
 		t[child] = below
 	}
 }
 
 // hasChildren tells whether anything came of a capability that is there yet.
 func (t tree) hasChildren(at slot) bool { return len(t[at].children) > 0 }
+
+// lastChild of a capability that has children.
+func (t tree) lastChild(at slot) slot {
+	children := t[at].children
+	return children[len(children)-1]
+}
 
 // inOrder goes through all capabilities, each one ahead of its children.
 func (t tree) inOrder() iter.Seq[slot] {

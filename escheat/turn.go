@@ -26,13 +26,13 @@ func methods() [kinds]func(*turn) (int, api.Errno) {
 		kindCopy:    (*turn).copy,
 		kindMint:    (*turn).mint,
 		kindMove:    (*turn).move,
-		kindDelete:  (*turn).nothing,
-		kindRevoke:  (*turn).nothing,
-		kindSend:    (*turn).nothing,
-		kindReceive: (*turn).nothing,
+		kindDelete:  (*turn).delete,
+		kindRevoke:  (*turn).revoke,
+		kindSend:    (*turn).send,
+		kindReceive: (*turn).receive,
 		kindLoad:    (*turn).load,
 		kindStore:   (*turn).store,
-		kindRoot:    (*turn).nothing,
+		kindRoot:    (*turn).setRoot,
 	}
 }
 
@@ -40,6 +40,7 @@ func methods() [kinds]func(*turn) (int, api.Errno) {
 type turn struct {
 	kernel *Kernel
 	call   api.Call
+	thread int
 	root   int    // what the caller had at the beginning: look-ups go by it to the end
 	bits   []bool // those not asked yet
 }
@@ -109,6 +110,3 @@ func (t *turn) poll() bool {
 	t.bits = t.bits[1:]
 	return next
 }
-
-// nothing stands in for the calls that are not built yet.
-func (t *turn) nothing() (int, api.Errno) { return 0, api.OK }

@@ -476,12 +476,11 @@ func TestRootDestroyedMeanwhile(t *testing.T) {
 		wantThread(t, k, 80, api.Thread{State: api.Ready, Root: -1})
 		wantDoomed(t, k)
 	}
-	// Calls that work nothing off reach the root yet: it is not doomed, though it lies in what is.
+	// A call that works nothing off reaches the root yet: it is not doomed, though it lies in what is.
 	k := build()
+	refused(t, k, 80, load(at(0), 0), api.ErrType)
 	must(t, k, retype(at(0), api.Frame, 2, 1, 6))
 	wantThread(t, k, 80, api.Thread{State: api.Ready, Root: -1})
-	k = build()
-	refused(t, k, 80, load(at(0), 0), api.ErrType)
 }
 
 // P3: what is made where something was has nothing of it: slots, roots.

@@ -76,6 +76,9 @@ func slotsOf(v view, base int) int {
 	return 0
 }
 
+// leastBits of each type of object.
+var leastBits = [...]int{0, 4, 3, 2, 4, 2}
+
 func (d *dice) call(v view, thread int) api.Call {
 	kinds := []int{
 		api.Retype, api.Retype, api.Retype, api.Copy, api.Copy, api.Mint, api.Move, api.Load, api.Store,
@@ -89,8 +92,8 @@ func (d *dice) call(v view, thread int) api.Call {
 	if d.below(2) == 0 {
 		c.Rights = 7
 	}
-	if least := []int{0, 4, 3, 2, 4, 2}; c.Type > 0 && c.Type < len(least) && d.below(4) > 0 {
-		c.Bits = least[c.Type] + d.below(3)*d.below(2)
+	if c.Type > 0 && c.Type < len(leastBits) && d.below(4) > 0 {
+		c.Bits = leastBits[c.Type] + d.below(3)*d.below(2)
 	}
 	if kind := soughtBy(c.Kind); kind != 0 && d.below(8) > 0 {
 		c.At = d.toward(v, thread, kind)
@@ -105,7 +108,25 @@ func (d *dice) call(v view, thread int) api.Call {
 		c.To = d.toward(v, thread, api.Node)
 	}
 	if c.Kind == api.Delete || c.Kind == api.Revoke {
+		if d.below(2) == 0 {
+			c.At = d.toward(v, thread, []int{api.Node, api.Untyped}[d.below(2)]) // these have the most to fall with them
+		}
 		c.At = d.spare(v, thread, c.At)
+	}
+	return c
+}
+
+// taking is a call that may be preempted, with nothing wrong if it can be.
+func (d *dice) taking(v view, thread int) api.Call {
+	c := api.Call{
+		Kind: []int{api.Retype, api.Retype, api.Delete, api.Revoke}[d.below(4)],
+		Type: 1 + d.below(5), Count: 1, To: d.address(v, thread, false),
+	}
+	c.Bits = leastBits[c.Type]
+	if c.Kind == api.Retype {
+		c.At = d.toward(v, thread, api.Untyped)
+	} else {
+		c.At = d.spare(v, thread, d.toward(v, thread, []int{api.Node, api.Node, api.Untyped, 1 + d.below(5)}[d.below(4)]))
 	}
 	return c
 }
@@ -192,12 +213,19 @@ func ready(v view) (bases []int) {
 	return bases
 }
 
-// bits are few, so that most calls come to their end.
+// bits are few, and mostly false in every other list, so that many calls come to their end.
 func (d *dice) bits() []bool {
-	list := make([]bool, d.below(6))
+	list, rare := make([]bool, d.below(6)), 2+3*d.below(2)
 	for i := range list {
-		list[i] = d.below(4) == 0
+		list[i] = d.below(rare) == 0
 	}
+	return list
+}
+
+// interrupt is bits of which the last one alone is true.
+func (d *dice) interrupt() []bool {
+	list := make([]bool, 1+d.below(4))
+	list[len(list)-1] = true
 	return list
 }
 
@@ -217,6 +245,9 @@ func furnished(t *testing.T) *escheat.Kernel {
 	must(t, k, retype(at(9), api.Frame, 3, 1, 11))
 	must(t, k, retype(at(10), api.Untyped, 6, 1, 6, 0))
 	must(t, k, copied(at(7), at(6, 1), 7))
+	must(t, k, retype(at(10), api.Node, 3, 2, 12))
+	must(t, k, retype(at(10), api.Node, 4, 1, 12, 0))
+	must(t, k, retype(at(10), api.Node, 3, 1, 12, 0, 1))
 	return k
 }
 
@@ -274,9 +305,26 @@ func keeps(t *testing.T, before, after view, thread int, c api.Call, word int, e
 	if !(c.Kind == api.Retype && workedOff) {
 		growsNot(t, before, after)
 	}
-	if c.Kind == api.Revoke && err == api.OK && !workedOff {
+	if c.Kind == api.Revoke && err == api.OK {
 		at, _ := follow(before, thread, c.At)
 		revokedAll(t, before, after, at)
+	}
+	if c.Kind == api.Retype && err == api.OK {
+		at, _ := follow(before, thread, c.To)
+		areNew(t, after, at, c.Count)
+	}
+}
+
+// areNew checks P6 of what was just made: frames too have words 0 alone.
+func areNew(t *testing.T, v view, at [2]int, count int) {
+	t.Helper()
+	for i := range count {
+		c, _ := lying(v, at[0], at[1]+i)
+		for n := c.Base; n < behind(c); n++ {
+			if v.words[n] != 0 {
+				t.Fatalf("P6: word %d of %v, which was just made, is %d", n, c, v.words[n])
+			}
+		}
 	}
 }
 
@@ -401,11 +449,9 @@ func holds(t *testing.T, v view, bitsOf map[int]int) {
 		if e.Cap.Type == api.Node {
 			bitsOf[e.Cap.Base] = e.Cap.Bits
 		}
-		if e.Cap.Type == api.Untyped {
-			for n := e.Cap.Base + e.Cap.Mark; n < behind(e.Cap); n++ {
-				if v.words[n] != 0 {
-					t.Fatalf("P6: word %d of %v is %d", n, e, v.words[n])
-				}
+		for n := e.Cap.Base + e.Cap.Mark; n < behind(e.Cap) && e.Cap.Type != api.Frame; n++ {
+			if v.words[n] != 0 {
+				t.Fatalf("P4, P6: word %d of %v is %d", n, e, v.words[n])
 			}
 		}
 	}
@@ -457,9 +503,9 @@ func above(lies map[[2]int]api.Entry, e, f api.Entry) bool {
 	return false
 }
 
-// P9: a call that is preempted and called again comes to the same as one that is not.
+// P9: a call that is preempted and called again comes to the same as one that is not, also where others have left something undone.
 func TestAnyPreempted(t *testing.T) {
-	compared := 0
+	compared, begun := map[int]int{}, 0
 	for seed := range 200 {
 		d := dice(seed + 1000)
 		whole, broken := furnished(t), furnished(t)
@@ -469,32 +515,55 @@ func TestAnyPreempted(t *testing.T) {
 			if !there {
 				break
 			}
-			c := d.call(v, thread)
+			c := d.taking(v, thread)
+			if d.below(3) == 0 {
+				c = d.call(v, thread)
+			}
+			if d.below(3) == 0 {
+				v = leaveUndone(t, whole, broken, thread, c, d.interrupt())
+				continue
+			}
 			_, want := whole.Do(thread, c)
 			preemptions, got := again(t, broken, d, thread, c)
-			v = look(whole)
 			if preemptions > 0 && (got == api.OK || got == api.ErrSlot && c.Kind == api.Delete) {
-				compared++
+				compared[c.Kind]++
+				begun += min(len(v.doomed), 1)
 			} else if got != want {
 				break // the caller, or its root, is no more: the kernels differ from here on
 			}
+			v = look(whole)
 			if other := look(broken); !reflect.DeepEqual(v, other) {
 				t.Fatalf("P9: %d, %+v, preempted %d times:\n%+v\nnot preempted:\n%+v", thread, c, preemptions, other, v)
 			}
 		}
 	}
-	if compared < 200 {
-		t.Errorf("only %d calls were preempted: too few to tell", compared)
+	for _, kind := range []int{api.Retype, api.Delete, api.Revoke} {
+		if compared[kind] < 80 {
+			t.Errorf("only %d calls of kind %d were preempted: too few to tell", compared[kind], kind)
+		}
 	}
+	if begun < 50 {
+		t.Errorf("only %d calls found something doomed: too few to tell", begun)
+	}
+}
+
+// leaveUndone makes a call alike in two kernels, and tells how both stand.
+func leaveUndone(t *testing.T, one, other *escheat.Kernel, thread int, c api.Call, bits []bool) view {
+	t.Helper()
+	_, got := one.Do(thread, c, bits...)
+	_, want := other.Do(thread, c, bits...)
+	v := look(one)
+	if got != want || !reflect.DeepEqual(v, look(other)) {
+		t.Fatalf("P2: Do(%d, %+v, %v): %d and %d", thread, c, bits, got, want)
+	}
+	return v
 }
 
 // again makes a call till it is not preempted any more, each time preempted sooner or later.
 func again(t *testing.T, k *escheat.Kernel, d dice, thread int, c api.Call) (int, api.Errno) {
 	t.Helper()
 	for n := range 2000 {
-		bits := make([]bool, 1+d.below(4))
-		bits[len(bits)-1] = true
-		if _, err := k.Do(thread, c, bits...); err != api.Preempted {
+		if _, err := k.Do(thread, c, d.interrupt()...); err != api.Preempted {
 			return n, err
 		}
 	}
